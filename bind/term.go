@@ -154,11 +154,15 @@ func Fields(t api.Term) []api.Term {
 
 // Uses is of which tables fields stand in a term.
 func Uses(t api.Term) uint32 {
-	var set uint32
-	for _, f := range Fields(t) {
-		if f.Table >= 0 && f.Table < 32 {
-			set |= 1 << f.Table
+	if t.Kind == api.Field {
+		if t.Table < 0 || t.Table > 31 {
+			return 0
 		}
+		return 1 << t.Table
+	}
+	var set uint32
+	for _, a := range t.Args {
+		set |= Uses(a)
 	}
 	return set
 }
