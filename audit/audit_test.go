@@ -229,6 +229,22 @@ func TestShared(t *testing.T) { // P14.1
 	refused(t, "two tables of one heap", d)
 }
 
+// TestSharedLeaves: two trees, each of them right, may not share the pages below their roots.
+func TestSharedLeaves(t *testing.T) { // P14.1
+	d, b := loaded(t, sample())
+	root, _ := d.Read(b.Indexes[0].Root)
+	if _, _, e := leaf.GetInner(root); e != api.OK {
+		t.Fatal("a tree of one page")
+	}
+	other, _ := d.Take()
+	d.Write(other, root)
+	twin := b.Indexes[0]
+	twin.Name, twin.Root = "twin", other
+	b.Indexes = append(b.Indexes, twin)
+	schema.Store(d, b)
+	refused(t, "two trees of the same leaves", d)
+}
+
 func TestAnyDisk(t *testing.T) { // P14.1: whatever stands on a disk, all calls end.
 	r := rand.New(rand.NewSource(14))
 	good, b := loaded(t, sample())

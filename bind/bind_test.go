@@ -104,7 +104,7 @@ func TestTotalsOnce(t *testing.T) { // P17.1
 }
 
 func TestKind(t *testing.T) { // P17.1
-	x, tables := field("", "x", 1, 0), []int{1, 0, -1, 9}
+	x, tables := field("", "x", 1, 0), []int{1, 0, -1, 2}
 	for _, c := range []struct {
 		t    api.Term
 		want uint8

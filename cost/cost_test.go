@@ -39,7 +39,7 @@ func book() api.Book {
 
 // block is over a, b, c: a.0 = 5; a.1 < 9; a.1 = b.0.
 func block() api.Block {
-	return api.Block{Tables: []int{0, 1, 2, 9, -1}, Where: []api.Term{binary("=", field(0, 0), num(5)), binary("<", field(0, 1), num(9)), binary("=", field(0, 1), field(1, 0))}}
+	return api.Block{Tables: []int{0, 1, 2, 3, -1}, Where: []api.Term{binary("=", field(0, 0), num(5)), binary("<", field(0, 1), num(9)), binary("=", field(0, 1), field(1, 0))}}
 }
 
 func index(kind, n int, conds ...int) api.Path {
@@ -67,6 +67,10 @@ func TestPath(t *testing.T) { // P24.1
 		t.Error("of a block's tables 31 are there")
 	}
 	b := book()
+	b.Tables[0].Rows = 1
+	if got := Path(b, block(), 0, index(api.OnlyPath, 0)); got != 2+10+1 {
+		t.Error("one row", got)
+	}
 	b.Tables[0].Pages, b.Indexes[0].High, b.Indexes[0].Leaves = -4, -5, -6
 	if Path(b, block(), 0, api.Path{}) != 1 || Path(b, block(), 0, index(api.OnlyPath, 0)) != 1 {
 		t.Error("numbers below 0", Path(b, block(), 0, index(api.OnlyPath, 0)))
@@ -97,7 +101,7 @@ func TestStep(t *testing.T) { // P24.1
 	}{
 		{nil, 0, 3, heap(0, api.FirstStep, 0), 10}, {nil, 0, 0, api.Step{Table: 0, Path: index(api.IndexPath, 0, 0)}, 8}, {nil, 2, 5, heap(0, api.LoopStep, 0), 5 + 1000*7}, {nil, 1, 5, heap(1, api.LoopStep, 0), 5 + rows*50}, {nil, 3, 0, heap(2, api.LoopStep, 0), 8},
 		{nil, 1, 5, api.Step{Table: 1, Method: api.ProbeStep, Index: 2, Join: 2}, 5 + rows*(3+1+3)}, {nil, 2, 5, api.Step{Table: 0, Method: api.ProbeStep, Index: 1, Join: 2}, 5 + 1000*(1+1+2)},
-		{nil, 1, 5, heap(1, api.MergeStep, 2), 5 + 50 + 2 + 252}, {ordered, 1, 5, heap(1, api.MergeStep, 2), 5 + 50 + 252}, {nil, 1, 5, merge, 5 + 1064 + 2}, {ordered, 1, 5, merge, 5 + 1064}, {nil, 2, 5, heap(0, api.MergeStep, 2), 5 + 7 + 252 + 2}, {nil, 2, 5, api.Step{Table: 0, Method: api.MergeStep, Path: index(api.IndexPath, 0), Join: 2}, 5 + 113 + 252 + 2}, {nil, 2, 5, api.Step{Table: 0, Method: api.MergeStep, Path: index(api.OnlyPath, 1), Join: 2}, 5 + 6 + 252}, {[]api.Step{{Table: 1, Path: index(api.OnlyPath, 2)}}, 2, 5, heap(0, api.MergeStep, 2), 5 + 7 + 2},
+		{nil, 1, 5, heap(1, api.MergeStep, 2), 5 + 50 + 2 + 252}, {ordered, 1, 5, heap(1, api.MergeStep, 2), 5 + 50 + 252}, {nil, 1, 5, merge, 5 + 1064 + 2}, {ordered, 1, 5, merge, 5 + 1064}, {nil, 2, 5, heap(0, api.MergeStep, 2), 5 + 7 + 252 + 2}, {nil, 2, 5, api.Step{Table: 0, Method: api.MergeStep, Path: index(api.IndexPath, 0), Join: 2}, 5 + 113 + 252 + 2}, {nil, 2, 5, api.Step{Table: 0, Method: api.MergeStep, Path: index(api.OnlyPath, 1), Join: 2}, 5 + 6 + 252}, {[]api.Step{{Table: 1, Path: index(api.OnlyPath, 2)}}, 2, 5, heap(0, api.MergeStep, 2), 5 + 7 + 2}, {[]api.Step{{Table: 0, Path: index(api.OnlyPath, 0)}}, 1, 5, merge, 5 + 1064 + 2}, {[]api.Step{{Table: 2, Path: index(api.OnlyPath, 3)}}, 2, 5, heap(0, api.MergeStep, 2), 5 + 7 + 252 + 2},
 		{nil, 0, 7, heap(3, 0, 0), never}, {nil, 0, 7, heap(5, 0, 0), never}, {nil, 0, 7, heap(-1, 0, 0), never}, {nil, 1, 7, heap(1, 4, 0), never}, {nil, 1, 7, heap(1, api.MergeStep, 1), never}, {nil, 1, 7, heap(2, api.MergeStep, 2), never}, {nil, 1, 7, api.Step{Table: 1, Method: api.ProbeStep, Index: 1, Join: 2}, never}, {nil, 1, 7, api.Step{Table: 1, Method: api.ProbeStep, Index: 2, Join: 0}, never}, {nil, 1, 7, api.Step{Table: 1, Method: api.ProbeStep, Index: 9, Join: 2}, never}, {nil, 1, 7, api.Step{Table: 1, Method: api.LoopStep, Path: index(api.IndexPath, 0)}, never},
 		{nil, 0, never, heap(0, 0, 0), never}, {nil, 1, never - 3, heap(1, 1, 0), never},
 	} {

@@ -16,7 +16,7 @@ func text(s string) api.Value { return api.Value{Kind: api.Text, Text: s} }
 
 func TestPlan(t *testing.T) { // P30.1
 	b := api.Book{Tables: []api.Table{{Name: "a"}, {Name: "city"}}, Indexes: []api.Index{{Name: "ix"}, {Name: "iy"}}}
-	k := api.Block{Tables: []int{0, 1, 1, 7, -1}}
+	k := api.Block{Tables: []int{0, 1, 1, 2, -1}}
 	two := make([]api.Range, 2)
 	index := func(kind uint8) api.Path { return api.Path{Kind: kind, Index: 1, Ranges: two, Also: two[:1]} }
 	for i, x := range []struct {

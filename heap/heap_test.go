@@ -175,6 +175,11 @@ func TestScanErrors(t *testing.T) { // P9.1
 	if _, n, e := Scan(fresh(), 1); n != 0 || e != api.ErrForm {
 		t.Error("a page that may not be", n, e)
 	}
+	for page, want := range map[uint32]api.Errno{1: api.ErrForm, 9: api.ErrPage} {
+		if n, e := Walk(fresh(), page, nil); n != 0 || e != want {
+			t.Error("a number of pages beside an error", n, e)
+		}
+	}
 	d.Write(2, page(3))
 	d.Write(3, page(0))
 	d.Write(0, page(1))

@@ -126,6 +126,20 @@ func TestThereAndBack(t *testing.T) { // P10.2
 	}
 }
 
+// TestFullPages: a page that is used up to its last byte is read, too.
+func TestFullPages(t *testing.T) { // P10.2
+	l := long(200, 200, 80)
+	b, _ := PutLeaf(0, l)
+	if _, got, e := GetLeaf(b); e != api.OK || !slices.Equal(got, l) {
+		t.Error("leaf", e)
+	}
+	l = long(200, 200, 64)
+	b, _ = PutInner([]uint32{1, 2, 3, 1<<32 - 1}, l)
+	if c, got, e := GetInner(b); e != api.OK || !slices.Equal(got, l) || c[3] != 1<<32-1 {
+		t.Error("inner", e)
+	}
+}
+
 func TestAnyBytes(t *testing.T) { // P10.1, P10.2
 	leafPage, _ := PutLeaf(3, long(4, 2))
 	inner, _ := PutInner([]uint32{1, 2, 3}, long(4, 2))

@@ -23,7 +23,7 @@ func TestTokens(t *testing.T) { // P15.1
 		"": "E", " \t\r\n": "E", "a>=1": "Na|S>=|D1|E", "SELECT * FROM t": "WSELECT|S*|WFROM|Nt|E", "a<>b<=c>=d<e>f=g": "Na|S<>|Nb|S<=|Nc|S>=|Nd|S<|Ne|S>|Nf|S=|Ng|E", "<<==>><>=": "S<|S<=|S=|S>|S>|S<>|S=|E",
 		"(),.*+-": "S(|S)|S,|S.|S*|S+|S-|E", "0": "D0|E", "10 9223372036854775807": "D10|D9223372036854775807|E", "''": "T|E", "'it''s'": "Tit's|E", "'a''''b'": "Ta''b|E", "'a' 'b'": "Ta|Tb|E", "''''": "T'|E",
 		"'\x00\xff SELECT -'": "T\x00\xff SELECT -|E", "a_1 selec": "Na_1|Nselec|E", "a.b-1": "Na|S.|Nb|S-|D1|E", "1-1": "D1|S-|D1|E", strings.Repeat("a", 24): "N" + strings.Repeat("a", 24) + "|E", "a\tb\nc\rd": "Na|Nb|Nc|Nd|E",
-		"'" + strings.Repeat("''", 48) + "'": "T" + strings.Repeat("'", 48) + "|E", "NULL)TRUE": "WNULL|S)|WTRUE|E", "1.5": "D1|S.|D5|E",
+		"'" + strings.Repeat("''", 48) + "'": "T" + strings.Repeat("'", 48) + "|E", "az_z9 z": "Naz_z9|Nz|E", "a<=": "Na|S<=|E", "<>": "S<>|E", ">": "S>|E", "NULL)TRUE": "WNULL|S)|WTRUE|E", "1.5": "D1|S.|D5|E",
 	} {
 		if l, e := Tokens(q); e != api.OK || told(l) != want {
 			t.Errorf("%q: %s, %v", q, told(l), e)
@@ -39,7 +39,7 @@ func TestTokens(t *testing.T) { // P15.1
 func TestErrors(t *testing.T) { // P15.1
 	for q, want := range map[string]api.Errno{
 		";": api.ErrSyntax, "a;b": api.ErrSyntax, "!": api.ErrSyntax, "\"a\"": api.ErrSyntax, "\x00": api.ErrSyntax, "\x80": api.ErrSyntax, "é": api.ErrSyntax, "\v": api.ErrSyntax, "\u00a0": api.ErrSyntax, "/": api.ErrSyntax, "a@b": api.ErrSyntax, "[": api.ErrSyntax, "`": api.ErrSyntax, "{": api.ErrSyntax,
-		"'": api.ErrSyntax, "'a": api.ErrSyntax, "'''": api.ErrSyntax, "'a''": api.ErrSyntax, "Select": api.ErrSyntax, "SELECTS": api.ErrSyntax, "aB": api.ErrSyntax, "A": api.ErrSyntax, "_a": api.ErrSyntax, "_": api.ErrSyntax, "NOT_": api.ErrSyntax,
+		"'": api.ErrSyntax, "'a": api.ErrSyntax, "'''": api.ErrSyntax, "'a''": api.ErrSyntax, "Select": api.ErrSyntax, "SELECTS": api.ErrSyntax, "aB": api.ErrSyntax, "A": api.ErrSyntax, "Z": api.ErrSyntax, "aZ": api.ErrSyntax, "_a": api.ErrSyntax, "_": api.ErrSyntax, "NOT_": api.ErrSyntax,
 		"1a": api.ErrSyntax, "05": api.ErrSyntax, "00": api.ErrSyntax, "1_0": api.ErrSyntax, "0a": api.ErrSyntax, strings.Repeat("a", 25): api.ErrSyntax, "099999999999999999999": api.ErrSyntax, "99999999999999999999a": api.ErrSyntax,
 		"9223372036854775808": api.ErrRange, "99999999999999999999999": api.ErrRange, "18446744073709551617": api.ErrRange, "1 9223372036854775808 ;": api.ErrRange, "; 9223372036854775808": api.ErrSyntax,
 		"'" + strings.Repeat("a", 49) + "'": api.ErrLong, "'" + strings.Repeat("''", 49) + "'": api.ErrLong, "'" + strings.Repeat("a", 99): api.ErrSyntax, "'" + strings.Repeat("a", 49) + "' ;": api.ErrLong,

@@ -345,6 +345,13 @@ func TestEntries(t *testing.T) { // P13.1
 	if l, e := Entries([]int{0, 1}, [][]api.Value{long}, rids[:1]); e != api.OK || len(l[0].Key) != 198 {
 		t.Error(e)
 	}
+	edge := [][]api.Value{{long[0], long[1], {}, {}, {}}}
+	if l, e := Entries([]int{0, 1, 2, 3}, edge, rids[:1]); e != api.OK || len(l[0].Key) != 200 {
+		t.Error("a key of 200 bytes", e)
+	}
+	if l, e := Entries([]int{0, 1, 2, 3, 4}, edge, rids[:1]); e != api.ErrLong || l != nil {
+		t.Error("a key of 201 bytes", e)
+	}
 	for _, x := range []struct {
 		columns []int
 		rows    [][]api.Value

@@ -83,8 +83,11 @@ func TestValues(t *testing.T) { // P2.1
 		if ok != (a != w && a <= y) {
 			t.Error(a, ok)
 		}
-		if ok && Of(v) != a || !ok && v != (api.Value{}) {
+		if want := []api.Value{{Kind: api.Bool}, {}, {}, {Kind: api.Bool, Int: 1}, {}}[min(a, 4)]; v != want {
 			t.Error(a, v)
+		}
+		if ok && Of(v) != a {
+			t.Error("there and back", a)
 		}
 	}
 }

@@ -126,6 +126,7 @@ func TestDeep(t *testing.T) { // P16.1
 
 func TestPrint(t *testing.T) { // P16.1
 	for s, want := range map[string]string{
+		"SELECT a FROM t GROUP BY a LIMIT 0": "SELECT a FROM t AS t GROUP BY a LIMIT 0", "SELECT 0 - 1, -a FROM t ORDER BY a DESC": "SELECT ( 0 - 1 ) , ( - a ) FROM t AS t ORDER BY a DESC",
 		"SELECT * FROM t": "SELECT * FROM t AS t", "SELECT DISTINCT a,t.x AS y FROM t u,v": "SELECT DISTINCT a , t . x AS y FROM t AS u , v AS v", "SELECT -5 FROM t WHERE NOT a LIMIT 5": "SELECT -5 FROM t AS t WHERE ( NOT a ) LIMIT 5",
 		"SELECT -(5),--5 FROM t ORDER BY a ASC,2 DESC": "SELECT ( - ( 5 ) ) , ( - -5 ) FROM t AS t ORDER BY a , 2 DESC", "SELECT COUNT(*),SUM(a+1) FROM t GROUP BY a,t.b": "SELECT COUNT ( * ) , SUM ( ( a + 1 ) ) FROM t AS t GROUP BY a , t . b",
 		"SELECT 'it''s' FROM t WHERE a IS NOT NULL OR a NOT IN (1,NULL)": "SELECT 'it''s' FROM t AS t WHERE ( ( a IS NOT NULL ) OR ( a NOT IN ( 1 , NULL ) ) )", "SELECT a FROM t WHERE a BETWEEN 1 AND 2": "SELECT a FROM t AS t WHERE ( ( a >= 1 ) AND ( a <= 2 ) )",
@@ -176,7 +177,7 @@ func (r texts) query() string {
 	if r.Intn(2) == 0 {
 		s += " WHERE " + r.term(5)
 	}
-	return s + r.pick("", " GROUP BY a, t.b") + r.pick("", " ORDER BY x DESC, 2", " ORDER BY 1 ASC") + r.pick("", " LIMIT 3")
+	return s + r.pick("", " GROUP BY a, t.b", " GROUP BY a") + r.pick("", " ORDER BY x DESC, 2", " ORDER BY 1 ASC") + r.pick("", " LIMIT 3", " LIMIT 0")
 }
 
 func TestThereAndBack(t *testing.T) { // P16.2

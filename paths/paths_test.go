@@ -76,8 +76,8 @@ func TestFields(t *testing.T) { // P22.1
 			t.Error("has", p)
 		}
 	}
-	l[4].Ranges[0].Lo = "x"
-	if Has(l[:2], want[2]) || !Same(l[2], want[2]) {
+	l[4].Ranges[0].Lo, l[4].Conds[0], l[4].Also[0].Lo, l[4].More[0] = "x", 9, "x", 9
+	if Has(l[:2], want[2]) || !Same(l[2], want[2]) || !Same(l[3], want[3]) {
 		t.Error("paths share their lists")
 	}
 }

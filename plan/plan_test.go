@@ -59,7 +59,7 @@ func TestNext(t *testing.T) { // P23.1
 		{join, 1, [][6]int{{1, loop}, {1, loop, 1}, {1, loop, 1, 1}, {1, probe, 0, 0, 1, 1}, {1, merge, 0, 0, 0, 1}, {1, merge, 1, 0, 0, 1}, {1, merge, 1, 1, 0, 1}, {2, loop}, {2, loop, 1, 2}}},
 		{join, 2, [][6]int{{0, loop}, {0, merge, 0, 0, 0, 1}, {2, loop}, {2, loop, 1, 2}, {2, probe, 0, 0, 2, 2}, {2, merge, 0, 0, 0, 2}, {2, merge, 1, 2, 0, 2}}},
 		{join, 5, [][6]int{{1, loop}, {1, loop, 1}, {1, loop, 1, 1}, {1, probe, 0, 0, 1, 1}, {1, merge, 0, 0, 0, 1}, {1, merge, 1, 0, 0, 1}, {1, merge, 1, 1, 0, 1}, {1, probe, 0, 0, 0, 2}, {1, merge, 0, 0, 0, 2}, {1, merge, 1, 0, 0, 2}, {1, merge, 1, 1, 0, 2}}},
-		{join, 7, nil}, {join, math.MaxUint32, nil}, {block(), 8 | 6, [][6]int{{0, loop}}}, {api.Block{}, 0, nil}, {api.Block{Tables: []int{9, -1}}, 0, nil},
+		{join, 7, nil}, {join, math.MaxUint32, nil}, {block(), 8 | 6, [][6]int{{0, loop}}}, {api.Block{}, 0, nil}, {api.Block{Tables: []int{9, -1}}, 0, nil}, {api.Block{Tables: []int{3, 0}}, 0, [][6]int{{1}}},
 	} {
 		if got := told(Next(book(), x.k, x.set)); !slices.Equal(got, x.want) {
 			t.Error(i, got)
@@ -71,12 +71,55 @@ func TestNext(t *testing.T) { // P23.1
 			t.Error("a step by no path", s)
 		}
 	}
-	l[1].Path.Ranges[0].Lo = "changed"
-	for _, s := range l[2:] {
-		for _, r := range s.Path.Ranges {
-			if r.Lo == "changed" {
-				t.Error("steps share their lists")
+	none := book()
+	none.Indexes[0].Columns = nil
+	for _, s := range Next(none, join, 1) {
+		if s.Method == probe && s.Index == 0 {
+			t.Error("a probe of an index without columns")
+		}
+	}
+}
+
+// TestOwnLists: what is written into one step, or plan, changes no other.
+func TestOwnLists(t *testing.T) { // P23.1
+	k := block(binary("=", field(1, 0), num(5)), binary("=", field(1, 1), num(6)), binary("=", field(1, 0), field(0, 0)))
+	spoil := func(s *api.Step) {
+		for i := range s.Path.Ranges {
+			s.Path.Ranges[i].Lo = "changed"
+		}
+		for i := range s.Path.Also {
+			s.Path.Also[i].Lo = "changed"
+		}
+		for i := range s.Path.Conds {
+			s.Path.Conds[i] = -9
+		}
+		for i := range s.Path.More {
+			s.Path.More[i] = -9
+		}
+	}
+	whole := func(s api.Step) bool {
+		return s.Method == api.ProbeStep || paths.Has(paths.All(book(), k, s.Table), s.Path)
+	}
+	l, both := Next(book(), k, 1), 0
+	for i := range l {
+		if !whole(l[i]) {
+			t.Fatal("steps share their lists", i)
+		}
+		if l[i].Path.Kind == api.BothPath {
+			both++
+		}
+		spoil(&l[i])
+	}
+	if both != 2 {
+		t.Error("not all were met", both)
+	}
+	plans, _ := All(book(), k, 300)
+	for i := range plans {
+		for n := range plans[i].Steps {
+			if !whole(plans[i].Steps[n]) {
+				t.Fatal("plans share their lists", i)
 			}
+			spoil(&plans[i].Steps[n])
 		}
 	}
 }
@@ -119,7 +162,7 @@ func TestNeeds(t *testing.T) { // P23.1
 	}{
 		{func(k *api.Block) { k.Order = nil; k.Grouped = true }, nil, false}, {func(k *api.Block) {}, sorted, false}, {func(k *api.Block) {}, nil, true}, {func(k *api.Block) { k.Order[0].Item = 4 }, sorted, true}, {func(k *api.Block) { k.Order[0].Item = 2 }, sorted, true}, {func(k *api.Block) { k.Order[0].Down = true }, sorted, true}, {func(k *api.Block) { k.Grouped = true }, sorted, true}, {func(k *api.Block) { k.Distinct = true }, sorted, true}, {func(k *api.Block) { k.Order = append(k.Order, k.Order[0]) }, sorted, true},
 		{func(k *api.Block) { k.Order[0].Item = 0 }, sorted, true}, {func(k *api.Block) { k.Order[0].Item = 10 }, sorted, true}, {func(k *api.Block) { k.Order[0].Item = math.MinInt }, sorted, true}, {func(k *api.Block) { k.Items[4] = binary("+", field(1, 1), num(0)) }, sorted, true}, {func(k *api.Block) { k.Items[4].Of = "b" }, sorted, false},
-		{func(k *api.Block) { k.Limit = 3 }, append(sorted, step(0, api.LoopStep, 0)), false},
+		{func(k *api.Block) { k.Items, k.Order[0].Item = append(k.Items, field(1, 1)), 10 }, sorted, false}, {func(k *api.Block) { k.Limit = 3 }, append(sorted, step(0, api.LoopStep, 0)), false},
 	} {
 		k := block()
 		k.Order = []api.Key{{Item: 5}}
@@ -177,13 +220,15 @@ func TestAll(t *testing.T) { // P23.1
 }
 
 func TestNone(t *testing.T) { // P23.1
-	for _, tables := range [][]int{{0, 1, 2, 0, 1, 2, 0, 1, 2, 0, 1, 9}, {-1}, make([]int, 33), make([]int, 100)} {
+	for _, tables := range [][]int{{0, 1, 2, 0, 1, 2, 0, 1, 2, 0, 1, 3}, {-1}, {3}, make([]int, 33), make([]int, 100)} {
 		if l, whole := All(book(), api.Block{Tables: tables}, 5); len(l) != 0 || !whole {
 			t.Error(len(tables), len(l), whole)
 		}
 	}
-	if l, whole := All(book(), api.Block{Tables: make([]int, 12)}, 3); len(l) != 3 || whole {
-		t.Error("twelve tables", len(l))
+	for _, n := range []int{12, 32} {
+		if l, whole := All(book(), api.Block{Tables: make([]int, n)}, 3); len(l) != 3 || whole || len(l[2].Steps) != n {
+			t.Error("many tables", n, len(l))
+		}
 	}
 }
 

@@ -106,7 +106,7 @@ func TestRanges(t *testing.T) { // P21.1
 		{1, []api.Term{is(">", 3, num(2)), is("=", 0, num(5))}, 1, []int{0, 1}}, {1, []api.Term{is("=", 3, num(2)), in(false, field(0, 0), lit(num(7)), lit(num(5)))}, 2, []int{1}}, {1, []api.Term{is("<", 3, num(2)), in(false, field(0, 0), lit(num(7)), lit(num(5)))}, 2, []int{1}}, {1, []api.Term{in(false, field(0, 3), lit(num(2)), lit(num(3)), lit(num(9))), is("=", 0, num(5))}, 3, []int{0, 1}}, {1, []api.Term{is("=", 3, num(2))}, 1, nil}, {1, []api.Term{is(">", 0, num(2)), is("=", 3, num(2))}, 1, []int{0}}, {1, []api.Term{is("=", 0, num(2)), is(">", 0, num(3))}, 1, []int{0}}, {1, []api.Term{is("=", 0, num(2)), in(false, field(0, 3), lit(null))}, 0, []int{0, 1}}, {1, []api.Term{in(false, field(0, 0), lit(null)), is("=", 3, num(1))}, 0, []int{0}}, {1, []api.Term{isNull(false, field(0, 0)), is("<", 3, num(1))}, 1, []int{0, 1}},
 		{3, []api.Term{is(">", 2, bit(0))}, 1, []int{0}}, {3, []api.Term{is(">", 2, bit(1))}, 0, []int{0}}, {3, []api.Term{is("<", 2, bit(0))}, 0, []int{0}}, {3, []api.Term{is("<=", 2, bit(0))}, 1, []int{0}},
 		{2, []api.Term{is("<", 1, text(""))}, 0, []int{0}}, {2, []api.Term{is("<", 1, text("\x00"))}, 1, []int{0}}, {2, []api.Term{is(">", 1, text("a")), is("<", 1, text("a\x00"))}, 0, []int{0, 1}}, {2, []api.Term{is(">", 1, text(strings.Repeat("\xff", 48)))}, 0, []int{0}}, {2, []api.Term{is(">", 1, text(strings.Repeat("\xff", 47)))}, 1, []int{0}}, {2, []api.Term{is(">", 1, text(long+"a")), is("<", 1, text(long+"b"))}, 0, []int{0, 1}}, {2, []api.Term{is(">", 1, text(long+"a")), is("<=", 1, text(long+"b"))}, 1, []int{0, 1}},
-		{5, []api.Term{is("=", 0, num(1))}, 0, nil}, {9, nil, 0, nil}, {-1, nil, 0, nil},
+		{5, []api.Term{is("=", 0, num(1))}, 0, nil}, {6, nil, 0, nil}, {9, nil, 0, nil}, {-1, nil, 0, nil},
 	} {
 		l, conds := Ranges(book(), block(x.l...), 0, x.index)
 		if len(l) != x.count || !slices.Equal(conds, x.conds) {
@@ -128,7 +128,7 @@ func TestRanges(t *testing.T) { // P21.1
 	for _, x := range []struct {
 		row  []api.Value
 		want bool
-	}{{[]api.Value{num(5), num(3)}, true}, {[]api.Value{num(5), num(2)}, false}, {[]api.Value{num(5), null}, false}, {[]api.Value{num(5), num(math.MaxInt64)}, true}, {[]api.Value{num(6), num(3)}, false}, {[]api.Value{num(4), num(3)}, false}} {
+	}{{[]api.Value{num(5), bit(0)}, false}, {[]api.Value{num(5), text("a")}, false}, {[]api.Value{num(5), num(3)}, true}, {[]api.Value{num(5), num(2)}, false}, {[]api.Value{num(5), null}, false}, {[]api.Value{num(5), num(math.MaxInt64)}, true}, {[]api.Value{num(6), num(3)}, false}, {[]api.Value{num(4), num(3)}, false}} {
 		if In(l, keyOf(x.row...)) != x.want {
 			t.Error(x.row)
 		}

@@ -201,6 +201,29 @@ func TestStore(t *testing.T) { // P12.1
 	}
 }
 
+// TestFullPage: a writing that fills its pages to the last byte needs no page more.
+func TestFullPage(t *testing.T) { // P12.1
+	for _, n := range []int{504, 505} {
+		b := api.Book{Tables: []api.Table{{Name: "a"}, {Name: "b"}}}
+		for i := range 8 {
+			b.Tables[0].Columns = append(b.Tables[0].Columns, api.Column{Name: strings.Repeat("c", 19) + strconv.Itoa(i), Kind: api.Int})
+			b.Tables[1].Columns = append(b.Tables[1].Columns, api.Column{Name: strings.Repeat("c", 18) + strconv.Itoa(i), Kind: api.Int})
+		}
+		b.Tables[1].Columns[0].Name += strings.Repeat("x", n-504)
+		if w, _ := Put(b); len(w) != n {
+			t.Fatal(len(w))
+		}
+		d, _ := disk.New(3)
+		if e := Store(d, b); e != api.OK || d.Left() != 2-(n-504) {
+			t.Error(n, e, d.Left())
+		}
+		p, _ := pool.New(d, 1)
+		if got, pages, e := Load(p); e != api.OK || !Same(got, b) || len(pages) != n-503 {
+			t.Error(n, e, pages)
+		}
+	}
+}
+
 func TestLoadErrors(t *testing.T) { // P12.1
 	whole := func() *disk.Disk { d, _ := disk.New(60); Store(d, great()); return d }
 	for name, x := range map[string]struct {

@@ -58,8 +58,8 @@ func TestRoom(t *testing.T) { // P8.1
 		if Room(b) != x.room || !May(b) {
 			t.Error(x.sizes, Room(b))
 		}
-		if _, _, e := Add(b, make([]byte, x.room+1)); e != api.ErrFull {
-			t.Error(x.sizes, e)
+		if got, slot, e := Add(b, make([]byte, x.room+1)); got != nil || slot != 0 || e != api.ErrFull {
+			t.Error(x.sizes, slot, e)
 		}
 		if x.room > 0 {
 			if _, _, e := Add(b, make([]byte, x.room)); e != api.OK {
@@ -67,8 +67,8 @@ func TestRoom(t *testing.T) { // P8.1
 			}
 		}
 	}
-	if _, _, e := Add(New(0), nil); e != api.ErrArg {
-		t.Error("no byte", e)
+	if b, slot, e := Add(New(0), nil); b != nil || slot != 0 || e != api.ErrArg {
+		t.Error("no byte", slot, e)
 	}
 	if _, _, e := Add(page(t, 0, 500), nil); e != api.ErrArg {
 		t.Error("no byte, no room", e)
@@ -166,11 +166,14 @@ func TestMayNot(t *testing.T) { // P8.1
 		if May(b) || Count(b) != 0 || Room(b) != 0 {
 			t.Error("may not be:", i)
 		}
-		_, _, e := Add(b, nil)
-		_, f := Get(b, -1)
+		added, slot, e := Add(b, nil)
+		one, f := Get(b, -1)
 		all, g := All(b)
-		_, h := Link(b, 1)
-		if e != api.ErrForm || f != api.ErrForm || g != api.ErrForm || h != api.ErrForm || all != nil {
+		linked, h := Link(b, 1)
+		if added != nil || slot != 0 || one != nil || all != nil || linked != nil {
+			t.Error("something beside an error", i)
+		}
+		if e != api.ErrForm || f != api.ErrForm || g != api.ErrForm || h != api.ErrForm {
 			t.Error(i, e, f, g, h)
 		}
 	}

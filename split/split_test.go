@@ -37,13 +37,14 @@ func TestSplit(t *testing.T) { // P19.1
 		binary("=", field(31, 0), field(2, 0)),                  // of 2: 31 isn't used by any
 		binary("=", field(-1, 0), field(99, 0)),                 // of none
 		{Kind: api.Unary, Op: "=", Args: []api.Term{field(0, 0), field(1, 0)}},
+		binary("=", binary("+", field(1, 0), one), field(0, 0)), // the same, turned round
 		{Kind: api.Binary, Op: "=", Args: []api.Term{field(0, 0), field(1, 0), field(2, 0)}},
 	}
-	want := api.Parts{None: []int{2, 9}, Local: [][]int{{1}, {5, 7}, {8}}, Many: []int{0, 3, 4, 6, 10, 11}, Joins: []api.Join{{Cond: 0, Low: 0, High: 1, LowCol: 2, HighCol: 3}, {Cond: 3, Low: 0, High: 2, LowCol: 4, HighCol: 5}}}
+	want := api.Parts{None: []int{2, 9}, Local: [][]int{{1}, {5, 7}, {8}}, Many: []int{0, 3, 4, 6, 10, 11, 12}, Joins: []api.Join{{Cond: 0, Low: 0, High: 1, LowCol: 2, HighCol: 3}, {Cond: 3, Low: 0, High: 2, LowCol: 4, HighCol: 5}}}
 	if got := Split(l, 3); !same(got, want) {
 		t.Error(got)
 	}
-	if got := Split(l, 2); !slices.Equal(got.Many, []int{0, 4, 6, 10, 11}) || len(got.Joins) != 1 || !slices.Equal(got.Local[0], []int{1, 3}) {
+	if got := Split(l, 2); !slices.Equal(got.Many, []int{0, 4, 6, 10, 11, 12}) || len(got.Joins) != 1 || !slices.Equal(got.Local[0], []int{1, 3}) {
 		t.Error("table 2 isn't used", got)
 	}
 	for _, n := range []int{0, -1, math.MinInt} {
