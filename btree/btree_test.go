@@ -339,11 +339,23 @@ func TestHigh(t *testing.T) { // P11.1
 		t.Error(e)
 	}
 	right(t, d, 1, []api.Entry{at("b", 0)})
+	if l, e := Range(over(d), 1, "", "", false, true); len(l) != 1 || e != api.OK {
+		t.Error("12 high", e)
+	}
+	if e := Walk(over(d), 1, "", false, nil); e != api.OK {
+		t.Error("12 high", e)
+	}
 	d = fresh(40)
 	for page := uint32(1); page < 13; page++ {
 		d.Write(page, innerOf([]uint32{page + 1, page + 20}, at("a", 0)))
 	}
-	d.Write(13, leafOf(0))
+	d.Write(13, leafOf(0, at("", 0)))
+	if l, e := Range(over(d), 2, "", "", true, false); len(l) != 0 || e != api.OK {
+		t.Error("12 high, up to where the range ends", e)
+	}
+	if l, e := Range(over(d), 1, "", "", true, false); l != nil || e != api.ErrForm {
+		t.Error("13 high", e)
+	}
 	_, _, e := Check(over(d), 1)
 	_, f := Insert(d, 1, at("", 0))
 	_, g := Range(over(d), 1, "", "", false, false)
@@ -352,6 +364,24 @@ func TestHigh(t *testing.T) { // P11.1
 	}
 	if l, e := Range(over(d), 2, "", "a", true, false); len(l) != 0 || e != api.ErrForm {
 		t.Error("a child that is none", e)
+	}
+}
+
+// TestGone: as many pages may be gone to as the disk has, but no more.
+func TestGone(t *testing.T) { // P11.1
+	made := map[uint32][]byte{1: innerOf([]uint32{0, 2}, at("b", 0)), 0: leafOf(2, at("a", 0)), 2: leafOf(0, at("b", 0))}
+	for _, down := range []bool{false, true} {
+		if l, e := Range(over(hand(3, made)), 1, "", "", false, down); len(l) != 2 || e != api.OK {
+			t.Error("all pages", e)
+		}
+	}
+	right(t, hand(3, made), 1, []api.Entry{at("a", 0), at("b", 0)})
+	made[1] = innerOf([]uint32{0, 2, 2}, at("b", 0), at("c", 0))
+	if l, e := Range(over(hand(3, made)), 1, "", "", false, false); l != nil || e != api.ErrForm {
+		t.Error("a page more", e)
+	}
+	if l, e := Range(over(hand(4, made)), 1, "", "", false, false); len(l) != 3 || e != api.OK {
+		t.Error("twice, on a greater disk", e)
 	}
 }
 

@@ -115,6 +115,53 @@ func TestBest(t *testing.T) { // P25.1, P25.2
 	}
 }
 
+// merged are books and blocks of which merges, probes by several indexes of a column, and their paths are worth weighing.
+func (r maker) merged() (api.Book, api.Block) {
+	var b api.Book
+	for range 3 {
+		t := api.Table{Rows: 1 + r.Intn(1<<(1+r.Intn(12))), Pages: 1 + r.Intn(60)}
+		for range 2 {
+			t.Columns = append(t.Columns, api.Column{Kind: api.Int, Distinct: 1 + r.Intn(t.Rows)})
+		}
+		b.Tables = append(b.Tables, t)
+	}
+	for range 3 + r.Intn(6) {
+		x := api.Index{Table: r.Intn(3), Columns: [][]int{{0}, {0, 1}, {1}}[r.Intn(3)], Leaves: 1 + r.Intn(40), High: 1 + r.Intn(3), Distinct: []int{1 + r.Intn(4000), 1}}
+		x.Distinct = x.Distinct[:len(x.Columns)]
+		b.Indexes = append(b.Indexes, x)
+	}
+	k := api.Block{Tables: []int{0, 1, 2}[:2+r.Intn(2)], Items: []api.Term{field(0, 0), field(1, 0)}}
+	for i := range len(k.Tables) - 1 {
+		k.Where = append(k.Where, binary("=", field(i, r.Intn(2)), field(i+1, r.Intn(2))))
+	}
+	if r.Intn(2) == 0 {
+		k.Where = append(k.Where, binary("<", field(r.Intn(2), 0), num(4)))
+	}
+	k.Order = []api.Key{{Item: 1 + r.Intn(2)}}[:r.Intn(2)]
+	return b, k
+}
+
+func TestMerged(t *testing.T) { // P25.2
+	r := maker{rand.New(rand.NewSource(28))}
+	met := map[uint8]int{}
+	for i := range 1200 {
+		b, k := r.merged()
+		p, n, e := Choose(b, k)
+		all, _ := plan.All(b, k, 6000)
+		for _, other := range all {
+			if c := cost.Plan(b, k, other); e != api.OK || c < n {
+				t.Fatal(i, e, "a plan costs less:", c, n, other)
+			}
+		}
+		for _, s := range p.Steps {
+			met[s.Method]++
+		}
+	}
+	if met[api.MergeStep] < 100 || met[api.ProbeStep] < 100 {
+		t.Error("all alike", met)
+	}
+}
+
 func TestExample(t *testing.T) { // P25.1
 	b := api.Book{Tables: []api.Table{{Rows: 1, Pages: 1}, {Rows: 100, Pages: 100}}}
 	for _, tables := range [][]int{{0, 1}, {1, 0}} {

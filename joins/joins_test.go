@@ -284,6 +284,27 @@ func TestSteps(t *testing.T) { // P27.1
 	}
 }
 
+// TestOddCombos: rows of tables that haven't come play no part; of a row that is too short there is no value to join by.
+func TestOddCombos(t *testing.T) { // P27.1
+	x, k := two(t)
+	k.Tables = append(k.Tables, 0)
+	k.Where = append(k.Where, binary("=", field(0, 1), field(1, 1)))
+	first, row := api.Step{Table: 0}, []api.Value{num(1)}
+	had := []api.Combo{{Rows: [][]api.Value{row, {num(7), num(7)}, row}}}
+	loop := k
+	loop.Where = k.Where[:1]
+	l, e := Step(x.pool, x.book, loop, []api.Step{first}, had, api.Step{Table: 1, Method: api.LoopStep})
+	if e != api.OK || len(l) != 2 || l[0].Rows[2] != nil || len(l[0].Rows) != 3 {
+		t.Error(e, l)
+	}
+	for _, join := range []int{0, 1} {
+		l, e := Step(x.pool, x.book, k, []api.Step{first}, had, api.Step{Table: 1, Method: api.MergeStep, Join: join})
+		if e != api.OK || join == 1 && len(l) != 0 || join == 0 && len(l) != 2 || join == 0 && !l[0].Wrong {
+			t.Error(join, e, l)
+		}
+	}
+}
+
 func TestPlanErrors(t *testing.T) { // P27.1
 	x, k := two(t)
 	first, loop := api.Step{Table: 0}, api.Step{Table: 1, Method: api.LoopStep}

@@ -348,6 +348,8 @@ func TestFormErrors(t *testing.T) { // P26.1
 		{[]api.Entry{{Key: "\x03\x01", Rid: api.Rid{Page: 1}}}, [3]api.Errno{api.ErrForm, api.ErrForm, api.ErrForm}},
 		{[]api.Entry{{Key: row + row, Rid: api.Rid{Page: 1}}}, [3]api.Errno{api.ErrForm, api.ErrForm, api.ErrForm}},
 		{[]api.Entry{{Key: "", Rid: api.Rid{Page: 1}}}, [3]api.Errno{api.ErrForm, api.ErrForm, api.ErrForm}},
+		{[]api.Entry{{Key: "", Rid: api.Rid{Page: 1}}, {Key: row, Rid: api.Rid{Page: 1}}}, [3]api.Errno{api.ErrForm, api.ErrForm, api.ErrForm}},
+		{[]api.Entry{{Key: row, Rid: api.Rid{Page: 0}}, {Key: row, Rid: api.Rid{Page: 1}}}, [3]api.Errno{api.ErrForm, api.OK, api.ErrForm}},
 	} {
 		d, p := fresh()
 		root, _ := btree.Build(d, x.l)

@@ -147,7 +147,7 @@ func TestLess(t *testing.T) { // P28.1
 		want bool
 	}{
 		{k(), a, b, false}, {k(api.Key{Item: 1}), a, b, false}, {k(api.Key{Item: 1}), b, a, false}, {k(api.Key{Item: 2}), a, b, true}, {k(api.Key{Item: 2}), b, a, false}, {k(api.Key{Item: 2, Down: true}), b, a, true}, {k(api.Key{Item: 2, Down: true}), a, b, false}, {k(api.Key{Item: 1}, api.Key{Item: 3}), a, b, true}, {k(api.Key{Item: 3, Down: true}), a, b, false}, {k(api.Key{Item: 3, Down: true}, api.Key{Item: 2}), b, a, true},
-		{k(api.Key{Item: 4}, api.Key{Item: 0}, api.Key{Item: -1}, api.Key{Item: math.MinInt}, api.Key{Item: math.MaxInt}, api.Key{Item: 2}), a, b, true}, {k(api.Key{Item: 2}), a[:1], b, false}, {k(api.Key{Item: 2}), a, b[:1], false}, {k(api.Key{Item: 1}), nil, b, false},
+		{k(api.Key{Item: 4}, api.Key{Item: 0}, api.Key{Item: -1}, api.Key{Item: math.MinInt}, api.Key{Item: math.MaxInt}, api.Key{Item: 2}), a, b, true}, {k(api.Key{Item: 2}), a[:1], b, false}, {k(api.Key{Item: 2}), a, b[:1], false}, {k(api.Key{Item: 1}), nil, b, false}, {k(api.Key{Item: 1}), []api.Value{num(1)}, []api.Value{num(2)}, true}, {k(api.Key{Item: 1, Down: true}), []api.Value{num(1)}, []api.Value{num(2)}, false},
 	} {
 		if got := Less(x.k, x.a, x.b); got != x.want {
 			t.Error(i, got)
