@@ -128,9 +128,47 @@ func TestRanges(t *testing.T) { // P21.1
 	for _, x := range []struct {
 		row  []api.Value
 		want bool
-	}{{[]api.Value{num(5), bit(0)}, false}, {[]api.Value{num(5), text("a")}, false}, {[]api.Value{num(5), num(3)}, true}, {[]api.Value{num(5), num(2)}, false}, {[]api.Value{num(5), null}, false}, {[]api.Value{num(5), num(math.MaxInt64)}, true}, {[]api.Value{num(6), num(3)}, false}, {[]api.Value{num(4), num(3)}, false}} {
+	}{{[]api.Value{num(5), num(3)}, true}, {[]api.Value{num(5), num(2)}, false}, {[]api.Value{num(5), null}, false}, {[]api.Value{num(5), num(math.MaxInt64)}, true}, {[]api.Value{num(6), num(3)}, false}, {[]api.Value{num(4), num(3)}, false}} {
 		if In(l, keyOf(x.row...)) != x.want {
 			t.Error(x.row)
+		}
+	}
+}
+
+// TestExample: the keys behind 5, 2, up to those behind 5.
+func TestExample(t *testing.T) { // P21.1
+	l, conds := Ranges(book(), block(is("=", 0, num(5)), is(">", 3, num(2))), 0, 1)
+	lo, _ := keycode.Behind(keyOf(num(5), num(2)))
+	hi, _ := keycode.Behind(keyOf(num(5)))
+	if !slices.Equal(l, []api.Range{{Lo: lo, Hi: hi, Ends: true}}) || !slices.Equal(conds, []int{0, 1}) {
+		t.Error(l, conds)
+	}
+}
+
+// TestOtherKinds: of a test with a value of another kind than the column's the range has just the values of that kind that pass.
+func TestOtherKinds(t *testing.T) { // P21.3
+	for i, x := range []api.Term{is(">", 0, text("")), is("<", 0, text("z")), is(">=", 1, num(0)), is("<", 2, num(0)), is(">", 2, num(0)), is("<=", 1, bit(1))} {
+		index := []int{0, 0, 2, 3, 3, 2}[i]
+		l, conds := Ranges(book(), block(x), 0, index)
+		if !slices.Equal(conds, []int{0}) || len(l) != 1 {
+			t.Fatal(i, l, conds)
+		}
+		for _, v := range []api.Value{null, num(math.MinInt64), num(5), num(math.MaxInt64), text(""), text("y"), text("zz"), bit(0), bit(1)} {
+			row := make([]api.Value, 4)
+			row[x.Args[0].Column] = v
+			if In(l, keyOf(v, null)) != (term.Truth(x, [][]api.Value{row}) == api.True) {
+				t.Error(i, x.Op, v, l)
+			}
+		}
+	}
+	l, _ := Ranges(book(), block(is(">", 0, num(5)), is("<", 0, text("a"))), 0, 0)
+	if len(l) != 0 {
+		t.Error("no value is of two kinds", l)
+	}
+	odd := api.Book{Tables: book().Tables, Indexes: []api.Index{{Columns: []int{-1}}, {Columns: []int{4}}}}
+	for index, x := range []api.Term{is(">", -1, num(1)), is(">", 4, num(1))} {
+		if l, conds := Ranges(odd, block(x), 0, index); len(l) != 1 || len(conds) != 1 {
+			t.Error("a column that isn't there", l, conds)
 		}
 	}
 }
