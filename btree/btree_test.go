@@ -199,6 +199,43 @@ func TestInsertFull(t *testing.T) { // P11.1
 	}
 }
 
+// TestInsertBeyond: a page whose separators reach beyond those of the page above it (right, as there are no entries there) is split, too.
+func TestInsertBeyond(t *testing.T) { // P11.2
+	key := func(c string) api.Entry { return at(c+strings.Repeat("x", 199), 0) }
+	d := hand(20, map[uint32][]byte{
+		1: innerOf([]uint32{2, 3}, at("m", 0)), 2: innerOf([]uint32{4, 5, 6}, key("y"), key("z")), 3: innerOf([]uint32{7, 8}, at("t", 0)),
+		4: leafOf(5, key("a"), key("b")), 5: leafOf(6), 6: leafOf(7), 7: leafOf(8, at("m", 0)), 8: leafOf(0, at("t", 0)),
+	})
+	had := []api.Entry{key("a"), key("b"), at("m", 0), at("t", 0)}
+	right(t, d, 1, had)
+	for _, x := range []api.Entry{key("c"), key("d"), key("e")} {
+		full := d.Copy()
+		for full.Left() > 1 {
+			full.Take()
+		}
+		if _, e := Insert(full, 1, x); e != api.ErrFull && e != api.OK {
+			t.Error(e)
+		}
+	}
+	root := uint32(1)
+	for i, x := range []api.Entry{key("c"), key("d"), key("e")} {
+		var e api.Errno
+		if root, e = Insert(d, root, x); e != api.OK {
+			t.Fatal(e)
+		}
+		had = slices.Insert(had, 2+i, x)
+		right(t, d, root, had)
+	}
+	d = hand(10, map[uint32][]byte{
+		1: innerOf([]uint32{2, 3}, at("m", 0)), 2: innerOf([]uint32{4, 5, 6}, key("y"), key("z")), 3: innerOf([]uint32{7, 8}, at("t", 0)),
+		4: leafOf(5, key("a"), key("b")), 5: leafOf(6), 6: leafOf(7), 7: leafOf(8, at("m", 0)), 8: leafOf(0, at("t", 0)),
+	})
+	if next, e := Insert(d, 1, key("c")); next != 0 || e != api.ErrFull {
+		t.Error(next, e)
+	}
+	right(t, d, 1, []api.Entry{key("a"), key("b"), at("m", 0), at("t", 0)})
+}
+
 // ranged are the entries of a range, told the plain way.
 func ranged(l []api.Entry, lo, hi string, ends, down bool) []api.Entry {
 	var got []api.Entry

@@ -1,11 +1,13 @@
 package btree
 
 import (
+	"cmp"
 	"slices"
 
 	"rowlock/api"
 	"rowlock/disk"
 	"rowlock/leaf"
+	"rowlock/pool"
 )
 
 // step is a page on the way down, and the number of its child on that way.
@@ -31,11 +33,29 @@ func Insert(d *disk.Disk, root uint32, x api.Entry) (uint32, api.Errno) {
 	}
 	last.entries = slices.Insert(last.entries, at, x)
 	c := &change{disk: d}
-	if root, e = c.settle(way, root); e != api.OK {
+	next, e := c.settle(way, root)
+	if e == api.ErrArg {
+		return anew(d, root, x)
+	}
+	if e != api.OK {
 		return 0, e
 	}
 	c.write()
-	return root, api.OK
+	return next, api.OK
+}
+
+// anew builds a tree of all entries and one more. That is needed only where an inner page's separators reach beyond those of the page above, and so can't go up when it is split.
+func anew(d *disk.Disk, root uint32, x api.Entry) (uint32, api.Errno) {
+	p, e := pool.New(d, 1)
+	if e != api.OK {
+		return 0, e
+	}
+	l, e := Range(p, root, "", "", false, false)
+	if e != api.OK {
+		return 0, e
+	}
+	at, _ := slices.BinarySearchFunc(l, x, leaf.Compare)
+	return Build(d, slices.Insert(l, at, x))
 }
 
 // descend is the way from the root to the leaf where an entry belongs.
@@ -74,8 +94,7 @@ func (c *change) settle(way []step, root uint32) (uint32, api.Errno) {
 	for i := len(way) - 1; i >= 0; i-- {
 		s := &way[i]
 		if s.fits() {
-			c.put(s.page, s.node)
-			return root, api.OK
+			return root, c.put(s.page, s.node)
 		}
 		up, right := s.split()
 		page, e := c.disk.Take()
@@ -85,8 +104,9 @@ func (c *change) settle(way []step, root uint32) (uint32, api.Errno) {
 		if s.leaf {
 			s.next = page
 		}
-		c.put(s.page, s.node)
-		c.put(page, right)
+		if e := cmp.Or(c.put(s.page, s.node), c.put(page, right)); e != api.OK {
+			return 0, e
+		}
 		if i > 0 {
 			above := &way[i-1]
 			above.entries = slices.Insert(above.entries, above.child, up)
@@ -99,7 +119,7 @@ func (c *change) settle(way []step, root uint32) (uint32, api.Errno) {
 		if root, e = c.disk.Take(); e != api.OK {
 			return 0, e
 		}
-		c.put(root, node{children: []uint32{s.page, page}, entries: []api.Entry{up}})
+		return root, c.put(root, node{children: []uint32{s.page, page}, entries: []api.Entry{up}})
 	}
 	return root, api.OK
 }
@@ -126,16 +146,18 @@ func (n *node) split() (api.Entry, node) {
 	return up, right
 }
 
-// put notes what is to be written: of entries that rise, and fit, there is always a page.
-func (c *change) put(page uint32, n node) {
+// put notes what is to be written.
+func (c *change) put(page uint32, n node) api.Errno {
 	var b []byte
+	var e api.Errno
 	if n.leaf {
-		b, _ = leaf.PutLeaf(n.next, n.entries)
+		b, e = leaf.PutLeaf(n.next, n.entries)
 	} else {
-		b, _ = leaf.PutInner(n.children, n.entries)
+		b, e = leaf.PutInner(n.children, n.entries)
 	}
 	c.pages = append(c.pages, page)
 	c.bytes = append(c.bytes, b)
+	return e
 }
 
 func (c *change) write() {
