@@ -124,6 +124,33 @@ func TestDeep(t *testing.T) { // P16.1
 	}
 }
 
+// TestDeepEnd: what begins too deep is told ahead of the token behind it, whatever that is; one step less deep that token is wrong.
+func TestDeepEnd(t *testing.T) { // P16.1
+	for _, open := range []string{"(", "NOT ", "- ", "SUM(", "COUNT(", "NOT(", "-("} {
+		counts := strings.Count(open, "(") + strings.Count(open, "NOT") + strings.Count(open, "-")
+		most := 31 / counts
+		for _, from := range []string{"SELECT ", "SELECT a, ", "SELECT a FROM t WHERE "} {
+			for _, tail := range []string{"", ")", " FROM t", ", a", " = 1", " OR a", " IN (1)", ". a"} {
+				for n, want := range map[int]api.Errno{most: api.ErrSyntax, most + 1: api.ErrDeep, most + 2: api.ErrDeep} {
+					q := from + strings.Repeat(open, n) + tail
+					if _, e := Parse(q); e != want {
+						t.Errorf("%s: %v, not %v", q, e, want)
+					}
+				}
+			}
+		}
+	}
+	// A total of all rows has no or, a number below 0 no minus sign; IN begins none.
+	most := "SELECT " + strings.Repeat("(", 31)
+	for s, want := range map[string]api.Errno{
+		"COUNT(*)": api.OK, "-5": api.OK, "1 IN (2, -3)": api.OK, "COUNT(": api.ErrDeep, "COUNT()": api.ErrDeep, "COUNT(a)": api.ErrDeep, "SUM(*)": api.ErrDeep, "SUM": api.ErrSyntax, "SUM*": api.ErrSyntax, "--5": api.ErrDeep, "-": api.ErrDeep, "-)": api.ErrDeep, "1 IN ()": api.ErrSyntax, "1 IN ((": api.ErrDeep, "1 NOT": api.ErrSyntax, "NOT": api.ErrDeep, ") (": api.ErrSyntax,
+	} {
+		if _, e := Parse(most + s + strings.Repeat(")", 31) + " FROM t"); e != want {
+			t.Errorf("%s: %v, not %v", s, e, want)
+		}
+	}
+}
+
 func TestPrint(t *testing.T) { // P16.1
 	for s, want := range map[string]string{
 		"SELECT a FROM t GROUP BY a LIMIT 0": "SELECT a FROM t AS t GROUP BY a LIMIT 0", "SELECT 0 - 1, -a FROM t ORDER BY a DESC": "SELECT ( 0 - 1 ) , ( - a ) FROM t AS t ORDER BY a DESC",

@@ -20,24 +20,12 @@ func unary(op string, a api.Term) api.Term {
 	return api.Term{Kind: api.Unary, Op: op, Args: []api.Term{a}}
 }
 
+// or begins ahead of its first token, whatever that is: that it is too deep is told ahead of what is wrong with that.
 func (p *parser) or() api.Term {
-	// What can't begin one is wrong ahead of how deep that would be.
-	if !p.opens() {
-		panic(api.ErrSyntax)
-	}
 	p.begin()
 	t := p.row(p.and, "OR")
 	p.end()
 	return t
-}
-
-// opens tells whether a term can begin with the next token.
-func (p *parser) opens() bool {
-	switch p.next().Kind {
-	case api.NumberToken, api.TextToken, api.NameToken:
-		return true
-	}
-	return p.sees("NOT", "-", "(", "NULL", "TRUE", "FALSE", "COUNT", "SUM", "MIN", "MAX")
 }
 
 func (p *parser) and() api.Term {
