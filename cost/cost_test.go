@@ -37,7 +37,7 @@ func book() api.Book {
 	}
 }
 
-// block is over a, b, c: a.0 = 5; a.1 < 9; a.1 = b.0.
+// block is over a, b, c: a.0 = 5; a.1 < 9; a.1 = b.0, which is join 0, though condition 2.
 func block() api.Block {
 	return api.Block{Tables: []int{0, 1, 2, 3, -1}, Where: []api.Term{binary("=", field(0, 0), num(5)), binary("<", field(0, 1), num(9)), binary("=", field(0, 1), field(1, 0))}}
 }
@@ -90,7 +90,7 @@ func TestStep(t *testing.T) { // P24.1
 		return api.Step{Table: table, Method: uint8(method), Join: join}
 	}
 	ordered := []api.Step{{Table: 0, Path: index(api.IndexPath, 1)}} // by a.1
-	merge := api.Step{Table: 1, Method: api.MergeStep, Path: index(api.IndexPath, 2), Join: 2}
+	merge := api.Step{Table: 1, Method: api.MergeStep, Path: index(api.IndexPath, 2)}
 	const rows = 1 // of a: 100 by 20 by 3, rounded down each time
 	for i, x := range []struct {
 		l    []api.Step
@@ -100,9 +100,9 @@ func TestStep(t *testing.T) { // P24.1
 		want uint64
 	}{
 		{nil, 0, 3, heap(0, api.FirstStep, 0), 10}, {nil, 0, 0, api.Step{Table: 0, Path: index(api.IndexPath, 0, 0)}, 8}, {nil, 2, 5, heap(0, api.LoopStep, 0), 5 + 1000*7}, {nil, 1, 5, heap(1, api.LoopStep, 0), 5 + rows*50}, {nil, 3, 0, heap(2, api.LoopStep, 0), 8},
-		{nil, 1, 5, api.Step{Table: 1, Method: api.ProbeStep, Index: 2, Join: 2}, 5 + rows*(3+1+3)}, {nil, 2, 5, api.Step{Table: 0, Method: api.ProbeStep, Index: 1, Join: 2}, 5 + 1000*(1+1+2)},
-		{nil, 1, 5, heap(1, api.MergeStep, 2), 5 + 50 + 2 + 252}, {ordered, 1, 5, heap(1, api.MergeStep, 2), 5 + 50 + 252}, {nil, 1, 5, merge, 5 + 1064 + 2}, {ordered, 1, 5, merge, 5 + 1064}, {nil, 2, 5, heap(0, api.MergeStep, 2), 5 + 7 + 252 + 2}, {nil, 2, 5, api.Step{Table: 0, Method: api.MergeStep, Path: index(api.IndexPath, 0), Join: 2}, 5 + 113 + 252 + 2}, {nil, 2, 5, api.Step{Table: 0, Method: api.MergeStep, Path: index(api.OnlyPath, 1), Join: 2}, 5 + 6 + 252}, {[]api.Step{{Table: 1, Path: index(api.OnlyPath, 2)}}, 2, 5, heap(0, api.MergeStep, 2), 5 + 7 + 2}, {[]api.Step{{Table: 0, Path: index(api.OnlyPath, 0)}}, 1, 5, merge, 5 + 1064 + 2}, {[]api.Step{{Table: 2, Path: index(api.OnlyPath, 3)}}, 2, 5, heap(0, api.MergeStep, 2), 5 + 7 + 252 + 2},
-		{nil, 0, 7, heap(3, 0, 0), never}, {nil, 0, 7, heap(5, 0, 0), never}, {nil, 0, 7, heap(-1, 0, 0), never}, {nil, 1, 7, heap(1, 4, 0), never}, {nil, 1, 7, heap(1, api.MergeStep, 1), never}, {nil, 1, 7, heap(2, api.MergeStep, 2), never}, {nil, 1, 7, api.Step{Table: 1, Method: api.ProbeStep, Index: 1, Join: 2}, never}, {nil, 1, 7, api.Step{Table: 1, Method: api.ProbeStep, Index: 2, Join: 0}, never}, {nil, 1, 7, api.Step{Table: 1, Method: api.ProbeStep, Index: 9, Join: 2}, never}, {nil, 1, 7, api.Step{Table: 1, Method: api.LoopStep, Path: index(api.IndexPath, 0)}, never},
+		{nil, 1, 5, api.Step{Table: 1, Method: api.ProbeStep, Index: 2}, 5 + rows*(3+1+3)}, {nil, 2, 5, api.Step{Table: 0, Method: api.ProbeStep, Index: 1}, 5 + 1000*(1+1+2)},
+		{nil, 1, 5, heap(1, api.MergeStep, 0), 5 + 50 + 2 + 252}, {ordered, 1, 5, heap(1, api.MergeStep, 0), 5 + 50 + 252}, {nil, 1, 5, merge, 5 + 1064 + 2}, {ordered, 1, 5, merge, 5 + 1064}, {nil, 2, 5, heap(0, api.MergeStep, 0), 5 + 7 + 252 + 2}, {nil, 2, 5, api.Step{Table: 0, Method: api.MergeStep, Path: index(api.IndexPath, 0)}, 5 + 113 + 252 + 2}, {nil, 2, 5, api.Step{Table: 0, Method: api.MergeStep, Path: index(api.OnlyPath, 1)}, 5 + 6 + 252}, {[]api.Step{{Table: 1, Path: index(api.OnlyPath, 2)}}, 2, 5, heap(0, api.MergeStep, 0), 5 + 7 + 2}, {[]api.Step{{Table: 0, Path: index(api.OnlyPath, 0)}}, 1, 5, merge, 5 + 1064 + 2}, {[]api.Step{{Table: 2, Path: index(api.OnlyPath, 3)}}, 2, 5, heap(0, api.MergeStep, 0), 5 + 7 + 252 + 2},
+		{nil, 0, 7, heap(3, 0, 0), never}, {nil, 0, 7, heap(5, 0, 0), never}, {nil, 0, 7, heap(-1, 0, 0), never}, {nil, 1, 7, heap(1, 4, 0), never}, {nil, 1, 7, heap(1, api.MergeStep, 1), never}, {nil, 1, 7, heap(1, api.MergeStep, 2), never}, {nil, 1, 7, heap(1, api.MergeStep, -1), never}, {nil, 1, 7, heap(2, api.MergeStep, 0), never}, {nil, 1, 7, api.Step{Table: 1, Method: api.ProbeStep, Index: 1}, never}, {nil, 1, 7, api.Step{Table: 1, Method: api.ProbeStep, Index: 2, Join: 1}, never}, {nil, 1, 7, api.Step{Table: 1, Method: api.ProbeStep, Index: 2, Join: 2}, never}, {nil, 1, 7, api.Step{Table: 1, Method: api.ProbeStep, Index: 2, Join: math.MinInt}, never}, {nil, 1, 7, api.Step{Table: 1, Method: api.ProbeStep, Index: 9}, never}, {nil, 1, 7, api.Step{Table: 1, Method: api.LoopStep, Path: index(api.IndexPath, 0)}, never},
 		{nil, 0, never, heap(0, 0, 0), never}, {nil, 1, never - 3, heap(1, 1, 0), never},
 	} {
 		if got := Step(book(), block(), x.l, x.set, x.by, x.s); got != x.want {
@@ -111,17 +111,34 @@ func TestStep(t *testing.T) { // P24.1
 	}
 	b := book()
 	b.Indexes[2].Distinct = nil
-	if got := Step(b, block(), nil, 1, 0, api.Step{Table: 1, Method: api.ProbeStep, Index: 2, Join: 2}); got != 3+1+1000 {
+	if got := Step(b, block(), nil, 1, 0, api.Step{Table: 1, Method: api.ProbeStep, Index: 2}); got != 3+1+1000 {
 		t.Error("no Distinct", got)
 	}
 	b.Indexes[2].Distinct = []int{0}
-	if got := Step(b, block(), nil, 1, 0, api.Step{Table: 1, Method: api.ProbeStep, Index: 2, Join: 2}); got != 3+1+1000 {
+	if got := Step(b, block(), nil, 1, 0, api.Step{Table: 1, Method: api.ProbeStep, Index: 2}); got != 3+1+1000 {
 		t.Error("Distinct 0", got)
 	}
 }
 
+// TestJoinNumber: a step's join is told by its number among the joins, whatever conditions stand between them.
+func TestJoinNumber(t *testing.T) { // P24.1
+	k := block()
+	k.Where = []api.Term{num(1), binary("=", field(1, 1), field(0, 0)), k.Where[0], k.Where[1], k.Where[2]}
+	ahead := []api.Step{{Table: 0, Path: index(api.OnlyPath, 0)}} // by a.0
+	rows, own := stats.Rows(book(), k, 1), stats.Rows(book(), k, 2)
+	for i, want := range []uint64{50 + Sort(own), 50 + Sort(rows) + Sort(own), never, never, never} {
+		if got := Step(book(), k, ahead, 1, 0, api.Step{Table: 1, Method: api.MergeStep, Join: i}); got != want {
+			t.Error("merge", i, got, want)
+		}
+		n := Step(book(), k, ahead, 1, 0, api.Step{Table: 1, Method: api.ProbeStep, Index: 2, Join: i})
+		if (n == never) != (want == never) {
+			t.Error("probe", i, n)
+		}
+	}
+}
+
 func TestPlan(t *testing.T) { // P24.1
-	l := []api.Step{{Table: 1}, {Table: 0, Method: api.ProbeStep, Index: 1, Join: 2}, {Table: 2, Method: api.LoopStep}}
+	l := []api.Step{{Table: 1}, {Table: 0, Method: api.ProbeStep, Index: 1}, {Table: 2, Method: api.LoopStep}}
 	rows := stats.Rows(book(), block(), 3)
 	want := 50 + 1000*4 + rows*1
 	if got := Plan(book(), block(), api.Plan{Steps: l}); got != want {

@@ -172,6 +172,36 @@ func TestExample(t *testing.T) { // P25.1
 	}
 }
 
+// TestJoinNumber: the steps of both plans tell their joins by the numbers among the joins, not among all conditions.
+func TestJoinNumber(t *testing.T) { // P25.1
+	columns := []api.Column{{Kind: api.Int, Distinct: 9}, {Kind: api.Int, Distinct: 100000}}
+	b := api.Book{
+		Tables:  []api.Table{{Rows: 9, Pages: 1, Columns: columns}, {Rows: 100000, Pages: 5000, Columns: columns}},
+		Indexes: []api.Index{{Table: 1, Columns: []int{1}, Leaves: 900, High: 3, Distinct: []int{100000}}},
+	}
+	k := api.Block{Tables: []int{0, 1, 0}, Items: []api.Term{field(0, 0), field(1, 0)}, Where: []api.Term{
+		binary("<", field(0, 0), num(5)), binary("=", field(2, 0), field(0, 1)), num(1), binary("<", field(0, 0), field(2, 1)), binary("=", field(0, 1), field(1, 1)),
+	}}
+	for name, do := range map[string]func(api.Book, api.Block) (api.Plan, uint64, api.Errno){"choose": Choose, "greedy": Greedy} {
+		p, n, e := do(b, k)
+		if e != api.OK || !plan.May(b, k, p) || n != cost.Plan(b, k, p) {
+			t.Error(name, e, p)
+		}
+		probes := 0
+		for _, s := range p.Steps {
+			if s.Method == api.ProbeStep {
+				probes++
+				if s.Join != 1 {
+					t.Error(name, "join", s.Join)
+				}
+			}
+		}
+		if probes != 1 {
+			t.Error(name, "no probe", p)
+		}
+	}
+}
+
 // TestGreedyIsNotBest: the cheapest first step may make the next ones dear.
 func TestGreedyIsNotBest(t *testing.T) { // P25.1
 	b := api.Book{Tables: []api.Table{{Rows: 100, Pages: 1}, {Rows: 1, Pages: 2}}}

@@ -8,6 +8,7 @@ import (
 	"testing"
 
 	"rowlock/api"
+	"rowlock/plan"
 )
 
 func num(n int64) api.Value   { return api.Value{Kind: api.Int, Int: n} }
@@ -31,6 +32,22 @@ func TestPlan(t *testing.T) { // P30.1
 		if got := Plan(b, k, x.p); got != x.want {
 			t.Errorf("%d: %q", i, got)
 		}
+	}
+}
+
+// TestPlansOfBlocks: steps that may come show their joins by the numbers among the joins.
+func TestPlansOfBlocks(t *testing.T) { // P30.1
+	field := func(table, column int) api.Term { return api.Term{Kind: api.Field, Table: table, Column: column} }
+	binary := func(op string, a, b api.Term) api.Term {
+		return api.Term{Kind: api.Binary, Op: op, Args: []api.Term{a, b}}
+	}
+	b := api.Book{Tables: []api.Table{{Name: "a", Columns: make([]api.Column, 2)}}, Indexes: []api.Index{{Name: "ay", Columns: []int{1}}}}
+	k := api.Block{Tables: []int{0, 0}, Items: []api.Term{field(0, 0), field(1, 0)}, Where: []api.Term{
+		binary("<", field(0, 0), field(1, 0)), binary("=", field(0, 0), field(1, 0)), binary("<", field(0, 1), field(1, 1)), binary("=", field(1, 1), field(0, 1)),
+	}}
+	want := "loop a#1 heap\nloop a#1 index ay 1\nmerge a#1 heap on 0\nmerge a#1 index ay 1 on 0\nprobe a#1 ay on 1\nmerge a#1 heap on 1\nmerge a#1 index ay 1 on 1\n"
+	if got := Plan(b, k, api.Plan{Steps: plan.Next(b, k, 1)}); got != want {
+		t.Errorf("%q", got)
 	}
 }
 

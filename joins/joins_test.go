@@ -284,6 +284,37 @@ func TestSteps(t *testing.T) { // P27.1
 	}
 }
 
+// TestJoinNumber: a step joins by the join of its number among the joins, whatever conditions stand between them.
+func TestJoinNumber(t *testing.T) { // P27.1
+	x, k := two(t)
+	join := k.Where[0]
+	k.Where = []api.Term{binary("<", field(0, 0), lit(num(9))), binary("=", field(1, 1), field(0, 0)), binary("<", field(0, 0), field(1, 1)), join}
+	first := api.Step{Table: 0}
+	a, _ := Step(x.pool, x.book, k, nil, nil, first)
+	for n, met := range map[int]struct{ merge, probe api.Errno }{-1: {api.ErrPlan, api.ErrPlan}, 0: {api.OK, api.ErrPlan}, 1: {api.OK, api.OK}, 2: {api.ErrPlan, api.ErrPlan}, 3: {api.ErrPlan, api.ErrPlan}} {
+		merge, probe := api.Step{Table: 1, Method: api.MergeStep, Join: n}, api.Step{Table: 1, Method: api.ProbeStep, Index: 1, Join: n}
+		if _, e := Step(x.pool, x.book, k, []api.Step{first}, a, merge); e != met.merge {
+			t.Error("merge", n, e)
+		}
+		if _, e := Run(x.pool, x.book, k, api.Plan{Steps: []api.Step{first, probe}}); e != met.probe {
+			t.Error("probe", n, e)
+		}
+	}
+	// Without the first join the other one is the first.
+	k.Where = []api.Term{k.Where[0], k.Where[2], join}
+	for _, s := range []api.Step{{Table: 1, Method: api.MergeStep}, {Table: 1, Method: api.ProbeStep, Index: 1}} {
+		if l, e := Run(x.pool, x.book, k, api.Plan{Steps: []api.Step{first, s}}); e != api.OK || len(l) != 5 {
+			t.Error(e, last(l))
+		}
+	}
+	// Rows come in the order of the join that is told.
+	k.Where = []api.Term{lit(api.Value{Kind: api.Bool, Int: 1}), join, join}
+	l, e := Step(x.pool, x.book, k, []api.Step{first}, a, api.Step{Table: 1, Method: api.MergeStep, Join: 1})
+	if e != api.OK || !slices.Equal(last(l), [][2]int64{{1, 11}, {1, 13}, {1, 11}, {1, 13}, {2, 10}}) {
+		t.Error(e, last(l))
+	}
+}
+
 // TestOddCombos: rows of tables that haven't come play no part; of a row that is too short there is no value to join by.
 func TestOddCombos(t *testing.T) { // P27.1
 	x, k := two(t)

@@ -56,9 +56,9 @@ func TestNext(t *testing.T) { // P23.1
 	}{
 		{block(), 0, [][6]int{{0}, {1}, {1, 0, 1}, {1, 0, 1, 1}, {2}, {2, 0, 1, 2}}},
 		{block(), 1, [][6]int{{1, loop}, {1, loop, 1}, {1, loop, 1, 1}, {2, loop}, {2, loop, 1, 2}}},
-		{join, 1, [][6]int{{1, loop}, {1, loop, 1}, {1, loop, 1, 1}, {1, probe, 0, 0, 1, 1}, {1, merge, 0, 0, 0, 1}, {1, merge, 1, 0, 0, 1}, {1, merge, 1, 1, 0, 1}, {2, loop}, {2, loop, 1, 2}}},
-		{join, 2, [][6]int{{0, loop}, {0, merge, 0, 0, 0, 1}, {2, loop}, {2, loop, 1, 2}, {2, probe, 0, 0, 2, 2}, {2, merge, 0, 0, 0, 2}, {2, merge, 1, 2, 0, 2}}},
-		{join, 5, [][6]int{{1, loop}, {1, loop, 1}, {1, loop, 1, 1}, {1, probe, 0, 0, 1, 1}, {1, merge, 0, 0, 0, 1}, {1, merge, 1, 0, 0, 1}, {1, merge, 1, 1, 0, 1}, {1, probe, 0, 0, 0, 2}, {1, merge, 0, 0, 0, 2}, {1, merge, 1, 0, 0, 2}, {1, merge, 1, 1, 0, 2}}},
+		{join, 1, [][6]int{{1, loop}, {1, loop, 1}, {1, loop, 1, 1}, {1, probe, 0, 0, 1, 0}, {1, merge}, {1, merge, 1}, {1, merge, 1, 1}, {2, loop}, {2, loop, 1, 2}}},
+		{join, 2, [][6]int{{0, loop}, {0, merge}, {2, loop}, {2, loop, 1, 2}, {2, probe, 0, 0, 2, 1}, {2, merge, 0, 0, 0, 1}, {2, merge, 1, 2, 0, 1}}},
+		{join, 5, [][6]int{{1, loop}, {1, loop, 1}, {1, loop, 1, 1}, {1, probe, 0, 0, 1, 0}, {1, merge}, {1, merge, 1}, {1, merge, 1, 1}, {1, probe, 0, 0, 0, 1}, {1, merge, 0, 0, 0, 1}, {1, merge, 1, 0, 0, 1}, {1, merge, 1, 1, 0, 1}}},
 		{join, 7, nil}, {join, math.MaxUint32, nil}, {block(), 8 | 6, [][6]int{{0, loop}}}, {api.Block{}, 0, nil}, {api.Block{Tables: []int{9, -1}}, 0, nil}, {api.Block{Tables: []int{3, 0}}, 0, [][6]int{{1}}},
 	} {
 		if got := told(Next(book(), x.k, x.set)); !slices.Equal(got, x.want) {
@@ -143,7 +143,7 @@ func TestOrder(t *testing.T) { // P23.1
 		ok            bool
 	}{
 		{nil, 0, 0, false}, {[]api.Step{step(1, api.FirstStep, 0)}, 0, 0, false}, {[]api.Step{first}, 1, 1, true}, {[]api.Step{by(step(2, api.FirstStep, 0), api.OnlyPath, 2)}, 2, 0, true}, {[]api.Step{by(step(1, api.FirstStep, 0), api.BothPath, 0)}, 0, 0, false}, {[]api.Step{first, loop}, 1, 1, true}, {[]api.Step{first, probe, by(loop, api.IndexPath, 2)}, 1, 1, true},
-		{[]api.Step{step(0, api.FirstStep, 0), step(1, api.MergeStep, 1)}, 0, 2, true}, {[]api.Step{first, step(0, api.MergeStep, 1)}, 1, 1, true}, {[]api.Step{first, step(2, api.MergeStep, 2), loop}, 1, 0, true}, {[]api.Step{first, step(2, api.MergeStep, 1)}, 0, 0, false}, {[]api.Step{first, step(2, api.MergeStep, 0)}, 0, 0, false}, {[]api.Step{first, step(2, api.MergeStep, 99)}, 0, 0, false},
+		{[]api.Step{step(0, api.FirstStep, 0), step(1, api.MergeStep, 0)}, 0, 2, true}, {[]api.Step{first, step(0, api.MergeStep, 0)}, 1, 1, true}, {[]api.Step{first, step(2, api.MergeStep, 1), loop}, 1, 0, true}, {[]api.Step{first, step(2, api.MergeStep, 0)}, 0, 0, false}, {[]api.Step{first, step(2, api.MergeStep, 2)}, 0, 0, false}, {[]api.Step{first, step(2, api.MergeStep, -1)}, 0, 0, false}, {[]api.Step{first, step(2, api.MergeStep, 99)}, 0, 0, false}, {[]api.Step{first, step(2, api.MergeStep, math.MinInt)}, 0, 0, false}, {[]api.Step{first, step(-1, api.MergeStep, 0)}, 0, 0, false},
 		{[]api.Step{loop}, 0, 0, false}, {[]api.Step{first, step(0, 9, 0)}, 0, 0, false}, {[]api.Step{by(step(1, api.FirstStep, 0), api.IndexPath, 77)}, 0, 0, false},
 	} {
 		table, column, ok := Order(book(), k, x.l)
@@ -249,6 +249,15 @@ func TestMay(t *testing.T) { // P23.1
 	} {
 		if got := May(book(), k, x.p); got != x.want {
 			t.Error(i, got)
+		}
+	}
+	// A join's number is that among the joins: conditions that are none don't count.
+	k.Where = []api.Term{binary(">", field(0, 1), num(1)), k.Where[0], binary("<", field(0, 1), field(1, 1)), k.Where[1], num(7)}
+	for n := -1; n < 6; n++ {
+		first := heap(true, step(0, 0, 0), api.Step{Table: 1, Method: api.ProbeStep, Join: n}, step(2, 1, 0))
+		second := heap(true, step(0, 0, 0), step(1, 1, 0), step(2, api.MergeStep, n))
+		if May(book(), k, first) != (n == 0) || May(book(), k, second) != (n == 1) {
+			t.Error("join", n)
 		}
 	}
 	k.Order = []api.Key{{Item: 4}}
